@@ -6,11 +6,12 @@ import (
 
 	"chalkline/api"
 	"chalkline/eval"
+	"chalkline/sample"
 )
 
 func TestBroken(t *testing.T) {
-	s := sample()
-	l := rules(`
+	s := tiny()
+	l := sample.Rules(`
 hard apart each l: lesson, m: lesson: l = m | some s: slot (at(l, s) & !at(m, s));
 soft early 3 each l: lesson, s: slot: at(l, s) -> hour(s) < 5;
 hard open each l: lesson, r: room, s: slot: shut(r, s) -> !(at(l, s) & in(l, r));
@@ -21,9 +22,9 @@ hard never: false;`)
 		broken     string
 		hard, cost int
 	}{
-		{weekOf(0, 0, 2, 1), "[{1 [0 0]} {1 [1 2]} {3 []} {4 []}]", 1, 13},
-		{weekOf(1, 0, 1, 0), "[{0 [0 1]} {0 [1 0]} {2 [0 0 1]} {2 [1 0 1]} {4 []}]", 5, 0},
-		{weekOf(1, 1, 0, 0), "[{1 [1 0]} {4 []}]", 1, 3},
+		{sample.Week(0, 0, 2, 1), "[{1 [0 0]} {1 [1 2]} {3 []} {4 []}]", 1, 13},
+		{sample.Week(1, 0, 1, 0), "[{0 [0 1]} {0 [1 0]} {2 [0 0 1]} {2 [1 0 1]} {4 []}]", 5, 0},
+		{sample.Week(1, 1, 0, 0), "[{1 [1 0]} {4 []}]", 1, 3},
 	} {
 		got, e := eval.Broken(s, x.w, l)
 		text := ""
@@ -43,16 +44,16 @@ hard never: false;`)
 			t.Errorf("%v: %d, %d, %d", x.w, h, c, e)
 		}
 	}
-	if got, e := eval.Broken(s, weekOf(0, 0, 0, 0), nil); len(got) > 0 || e != api.OK {
+	if got, e := eval.Broken(s, sample.Week(0, 0, 0, 0), nil); len(got) > 0 || e != api.OK {
 		t.Error(got, e)
 	}
 }
 
 func TestBrokenErrors(t *testing.T) {
-	s, w := sample(), weekOf(0, 0, 0, 0)
-	good := rules("hard a each l: lesson: true;")
-	twice := append(rules("hard a: true;"), good...)
-	big := plain(64, 50, 1, 64, 0)
+	s, w := tiny(), sample.Week(0, 0, 0, 0)
+	good := sample.Rules("hard a each l: lesson: true;")
+	twice := append(sample.Rules("hard a: true;"), good...)
+	big := sample.Plain(64, 50, 1, 64, 0)
 	half := "each l: lesson, d: day: l = l;" // 448 instances
 	for i, x := range []struct {
 		s api.School
@@ -60,13 +61,13 @@ func TestBrokenErrors(t *testing.T) {
 		l []api.Rule
 		e api.Errno
 	}{
-		{api.School{}, w, twice, api.ErrArg}, {plain(65, 1, 1, 0, 0), w, twice, api.ErrBound}, {s, weekOf(0, 0), twice, api.ErrPlace}, {s, weekOf(0, 0, 0, 9), nil, api.ErrPlace}, {s, w, twice, api.ErrTwice},
-		{s, w, []api.Rule{{}}, api.ErrArg}, {s, w, []api.Rule{{Name: "a", Hard: true, Body: form("x = 1")}}, api.ErrVar}, {s, w, []api.Rule{{Name: "a", Hard: true, Body: form("all x: slot (at(x, x))")}}, api.ErrSort},
-		{s, w, good, api.OK}, {big, zero(big), rules("hard a each l: lesson, p: person: l = l;"), api.OK}, {big, zero(big), rules("hard a each l: lesson, p: person: l = l; hard b: true;"), api.ErrBound},
-		{big, zero(big), rules("hard b: true; hard a each l: lesson, p: person: l = l;"), api.ErrBound}, {big, zero(big), rules("hard a each l: lesson, p: person, s: slot, q: lesson, o: person, n: lesson: true;"), api.ErrBound},
-		{big, zero(big), rules("hard a each l: lesson, p: person, s: slot, q: lesson, o: person, g: group: true; hard b " + half), api.OK},
-		{big, zero(big), rules("hard a " + half + "hard b " + half + "hard c " + half + "hard d " + half + "hard e " + half + "hard f " + half + "hard g " + half + "hard h " + half + "hard i " + half), api.OK},
-		{big, zero(big), rules("hard a " + half + "hard b " + half + "hard c " + half + "hard d " + half + "hard e " + half + "hard f " + half + "hard g " + half + "hard h " + half + "hard i " + half + "hard j " + half), api.ErrBound},
+		{api.School{}, w, twice, api.ErrArg}, {sample.Plain(65, 1, 1, 0, 0), w, twice, api.ErrBound}, {s, sample.Week(0, 0), twice, api.ErrPlace}, {s, sample.Week(0, 0, 0, 9), nil, api.ErrPlace}, {s, w, twice, api.ErrTwice},
+		{s, w, []api.Rule{{}}, api.ErrArg}, {s, w, []api.Rule{{Name: "a", Hard: true, Body: sample.Form("x = 1")}}, api.ErrVar}, {s, w, []api.Rule{{Name: "a", Hard: true, Body: sample.Form("all x: slot (at(x, x))")}}, api.ErrSort},
+		{s, w, good, api.OK}, {big, sample.Zero(big), sample.Rules("hard a each l: lesson, p: person: l = l;"), api.OK}, {big, sample.Zero(big), sample.Rules("hard a each l: lesson, p: person: l = l; hard b: true;"), api.ErrBound},
+		{big, sample.Zero(big), sample.Rules("hard b: true; hard a each l: lesson, p: person: l = l;"), api.ErrBound}, {big, sample.Zero(big), sample.Rules("hard a each l: lesson, p: person, s: slot, q: lesson, o: person, n: lesson: true;"), api.ErrBound},
+		{big, sample.Zero(big), sample.Rules("hard a each l: lesson, p: person, s: slot, q: lesson, o: person, g: group: true; hard b " + half), api.OK},
+		{big, sample.Zero(big), sample.Rules("hard a " + half + "hard b " + half + "hard c " + half + "hard d " + half + "hard e " + half + "hard f " + half + "hard g " + half + "hard h " + half + "hard i " + half), api.OK},
+		{big, sample.Zero(big), sample.Rules("hard a " + half + "hard b " + half + "hard c " + half + "hard d " + half + "hard e " + half + "hard f " + half + "hard g " + half + "hard h " + half + "hard i " + half + "hard j " + half), api.ErrBound},
 	} {
 		if l, e := eval.Broken(x.s, x.w, x.l); e != x.e || e != api.OK && len(l) > 0 {
 			t.Errorf("%d: %d, want %d", i, e, x.e)
@@ -91,10 +92,10 @@ func bush(n int) api.Form {
 
 func TestBreadthOfRules(t *testing.T) {
 	// 4096 instances of 256 nodes each are as broad as rules may be.
-	s := plain(64, 64/2, 1, 64, 2)
-	w := zero(s)
+	s := sample.Plain(64, 64/2, 1, 64, 2)
+	w := sample.Zero(s)
 	rule := func(name string, body api.Form, each string) api.Rule {
-		r := rules("soft x 1 each " + each + ": true;")[0]
+		r := sample.Rules("soft x 1 each " + each + ": true;")[0]
 		r.Name, r.Body = name, body
 		return r
 	}
@@ -121,8 +122,8 @@ func TestBreadthOfRules(t *testing.T) {
 }
 
 func TestArgumentsAreLeftAlone(t *testing.T) {
-	s, w := sample(), weekOf(0, 0, 0, 0)
-	l := rules("hard a each l: lesson, s: slot: all r: room (some q: slot (at(l, s) & at(l, q) & in(l, r)));")
+	s, w := tiny(), sample.Week(0, 0, 0, 0)
+	l := sample.Rules("hard a each l: lesson, s: slot: all r: room (some q: slot (at(l, s) & at(l, q) & in(l, r)));")
 	old := fmt.Sprint(s, w, l)
 	a, _ := eval.Broken(s, w, l)
 	b, _ := eval.Insts(s, l[0])

@@ -2,40 +2,18 @@ package eval_test
 
 import (
 	"fmt"
-	"math/rand/v2"
 	"slices"
 	"testing"
 
 	"chalkline/api"
 	"chalkline/eval"
 	"chalkline/formula"
-	"chalkline/syntax"
+	"chalkline/sample"
 	"chalkline/week"
 )
 
-// plain is a school with the given numbers of lessons, slots, rooms, people and groups, and no relations.
-func plain(lessons, slots, rooms, people, groups int) api.School {
-	var s api.School
-	for i := range lessons {
-		s.Lessons = append(s.Lessons, api.Lesson{Name: fmt.Sprint("l", i)})
-	}
-	for i := range slots {
-		s.Slots = append(s.Slots, api.Slot{Name: fmt.Sprint("s", i), Day: i % 7, Hour: i / 7})
-	}
-	for i := range rooms {
-		s.Rooms = append(s.Rooms, api.Room{Name: fmt.Sprint("r", i)})
-	}
-	for i := range people {
-		s.People = append(s.People, api.Person{Name: fmt.Sprint("p", i)})
-	}
-	for i := range groups {
-		s.Groups = append(s.Groups, api.Group{Name: fmt.Sprint("g", i)})
-	}
-	return s
-}
-
-// sample has two slots of one day in falling order, and something of every relation.
-func sample() api.School {
+// tiny has two slots of one day in falling order, and something of every relation.
+func tiny() api.School {
 	return api.School{
 		Slots:   []api.Slot{{Name: "late", Day: 2, Hour: 9}, {Name: "early", Day: 2, Hour: 3}, {Name: "first", Day: 1, Hour: 11}},
 		Rooms:   []api.Room{{Name: "big", House: 3, Seats: 40, Shut: []int{1}}, {Name: "small", House: 5, Seats: 10}},
@@ -45,35 +23,9 @@ func sample() api.School {
 	}
 }
 
-func weekOf(l ...int) api.Week {
-	var w api.Week
-	for i := 0; i < len(l); i += 2 {
-		w.L = append(w.L, api.Place{Slot: l[i], Room: l[i+1]})
-	}
-	return w
-}
-
-func zero(s api.School) api.Week { return api.Week{L: make([]api.Place, len(s.Lessons))} }
-
-func form(src string) api.Form {
-	f, at, e := syntax.Form([]byte(src))
-	if e != api.OK {
-		panic(fmt.Sprint(src, at, e))
-	}
-	return f
-}
-
-func rules(src string) []api.Rule {
-	l, at, e := syntax.Parse([]byte(src))
-	if e != api.OK {
-		panic(fmt.Sprint(src, at, e))
-	}
-	return l
-}
-
 func TestHoldsOfClosedFormulas(t *testing.T) {
-	s := sample()
-	w := weekOf(0, 1, 2, 0) // math late in the small room, art first in the big one
+	s := tiny()
+	w := sample.Week(0, 1, 2, 0) // math late in the small room, art first in the big one
 	for src, want := range map[string]bool{
 		"true": true, "false": false, "!true": false, "!false": true, "true & true": true, "true & false": false, "false & true": false, "true | false": true, "false | true": true, "false | false": false,
 		"true -> false": false, "true -> true": true, "false -> false": true, "false -> true": true, "1 = 1": true, "1 != 1": false, "1 < 2": true, "2 < 2": false, "2 <= 2": true, "3 <= 2": false,
@@ -82,15 +34,15 @@ func TestHoldsOfClosedFormulas(t *testing.T) {
 		"least 2 l: lesson, s: slot (at(l, s))": true, "least 3 l: lesson, s: slot (at(l, s))": false, "most 2 l: lesson, s: slot (at(l, s))": true, "most 1 l: lesson, s: slot (at(l, s))": false,
 		"least 0 l: lesson (false)": true, "most 0 l: lesson (false)": true, "most 0 l: lesson (true)": false, "least 2 l: lesson (true)": true, "least 3 l: lesson (true)": false, "least 1099511627776 l: lesson (true)": false, "most 1099511627776 l: lesson (true)": true,
 	} {
-		if x, e := eval.Holds(s, w, nil, form(src)); x != want || e != api.OK {
+		if x, e := eval.Holds(s, w, nil, sample.Form(src)); x != want || e != api.OK {
 			t.Errorf("%s: %v, %d", src, x, e)
 		}
 	}
 }
 
 func TestHoldsUnderAnEnvironment(t *testing.T) {
-	s := sample()
-	w := weekOf(0, 1, 2, 0)
+	s := tiny()
+	w := sample.Week(0, 1, 2, 0)
 	env := []api.Env{
 		{Name: "math", Sort: api.LessonS, At: 0}, {Name: "art", Sort: api.LessonS, At: 1}, {Name: "late", Sort: api.SlotS, At: 0}, {Name: "early", Sort: api.SlotS, At: 1}, {Name: "first", Sort: api.SlotS, At: 2},
 		{Name: "big", Sort: api.RoomS, At: 0}, {Name: "small", Sort: api.RoomS, At: 1}, {Name: "ann", Sort: api.PersonS, At: 0}, {Name: "bob", Sort: api.PersonS, At: 1},
@@ -108,15 +60,15 @@ func TestHoldsUnderAnEnvironment(t *testing.T) {
 		"most 1 s: slot (s > first)": false, "some q: day (q = e)": true, "least 7 q: day (true)": true, "most 7 q: day (true)": true, "least 8 q: house (true)": true, "least 9 q: house (true)": false,
 		"all s: slot (day(s) = d | s = first)": true, "all s: slot, r: room (shut(r, s) -> s = early & r = big)": true, "most 1 s: slot, r: room (shut(r, s))": true, "most 0 s: slot, r: room (shut(r, s))": false,
 	} {
-		if x, e := eval.Holds(s, w, env, form(src)); x != want || e != api.OK {
+		if x, e := eval.Holds(s, w, env, sample.Form(src)); x != want || e != api.OK {
 			t.Errorf("%s: %v, %d", src, x, e)
 		}
 	}
 }
 
 func TestHoldsErrors(t *testing.T) {
-	s, w := sample(), weekOf(0, 1, 2, 0)
-	deep := form("true")
+	s, w := tiny(), sample.Week(0, 1, 2, 0)
+	deep := sample.Form("true")
 	for range 24 {
 		deep = api.Form{Kind: api.NotF, L: []api.Form{deep}}
 	}
@@ -128,15 +80,15 @@ func TestHoldsErrors(t *testing.T) {
 		f   api.Form
 		e   api.Errno
 	}{
-		{api.School{}, w, nil, form("true"), api.ErrArg}, {plain(65, 1, 1, 0, 0), w, nil, form("true"), api.ErrBound}, {s, weekOf(0, 0), nil, form("true"), api.ErrPlace},
-		{s, weekOf(0, 0, 3, 0), []api.Env{{}}, api.Form{}, api.ErrPlace}, {s, weekOf(0, 0, 0, 2), nil, form("true"), api.ErrPlace},
-		{s, w, []api.Env{{Name: "l", Sort: api.LessonS, At: 2}}, form("x = 1"), api.ErrArg}, {s, w, []api.Env{{Name: "l", Sort: api.LessonS, At: -1}}, form("true"), api.ErrArg},
-		{s, w, []api.Env{{Name: "d", Sort: api.DayS, At: 7}}, form("true"), api.ErrArg}, {s, w, []api.Env{{Name: "d", Sort: api.DayS, At: 6}}, form("true"), api.OK},
-		{s, w, []api.Env{{Name: "h", Sort: api.HouseS, At: 8}}, form("true"), api.ErrArg}, {s, w, []api.Env{{Name: "h", Sort: api.HouseS, At: 7}}, form("true"), api.OK},
-		{s, w, []api.Env{{Name: "", Sort: api.LessonS}}, form("true"), api.ErrArg}, {s, w, []api.Env{{Name: "slot", Sort: api.LessonS}}, form("true"), api.ErrArg}, {s, w, []api.Env{{Name: "x", Sort: api.NumS}}, form("true"), api.ErrArg},
-		{s, w, []api.Env{{Name: "x", Sort: 0}}, form("true"), api.ErrArg}, {s, w, append(ok, ok...), form("true"), api.ErrArg}, {s, w, append(ok, ok...), api.Form{}, api.ErrArg},
-		{s, w, ok, api.Form{}, api.ErrArg}, {s, w, ok, deep, api.ErrBound}, {s, w, ok, form("some s: slot (at(l, s))"), api.OK}, {s, w, ok, form("some s: slot (at(s, l))"), api.ErrSort},
-		{s, w, ok, form("some s: slot (at(m, s))"), api.ErrVar}, {s, w, ok, form("some l: slot (true)"), api.ErrTwice}, {s, w, ok, form("size(l) = 9"), api.OK},
+		{api.School{}, w, nil, sample.Form("true"), api.ErrArg}, {sample.Plain(65, 1, 1, 0, 0), w, nil, sample.Form("true"), api.ErrBound}, {s, sample.Week(0, 0), nil, sample.Form("true"), api.ErrPlace},
+		{s, sample.Week(0, 0, 3, 0), []api.Env{{}}, api.Form{}, api.ErrPlace}, {s, sample.Week(0, 0, 0, 2), nil, sample.Form("true"), api.ErrPlace},
+		{s, w, []api.Env{{Name: "l", Sort: api.LessonS, At: 2}}, sample.Form("x = 1"), api.ErrArg}, {s, w, []api.Env{{Name: "l", Sort: api.LessonS, At: -1}}, sample.Form("true"), api.ErrArg},
+		{s, w, []api.Env{{Name: "d", Sort: api.DayS, At: 7}}, sample.Form("true"), api.ErrArg}, {s, w, []api.Env{{Name: "d", Sort: api.DayS, At: 6}}, sample.Form("true"), api.OK},
+		{s, w, []api.Env{{Name: "h", Sort: api.HouseS, At: 8}}, sample.Form("true"), api.ErrArg}, {s, w, []api.Env{{Name: "h", Sort: api.HouseS, At: 7}}, sample.Form("true"), api.OK},
+		{s, w, []api.Env{{Name: "", Sort: api.LessonS}}, sample.Form("true"), api.ErrArg}, {s, w, []api.Env{{Name: "slot", Sort: api.LessonS}}, sample.Form("true"), api.ErrArg}, {s, w, []api.Env{{Name: "x", Sort: api.NumS}}, sample.Form("true"), api.ErrArg},
+		{s, w, []api.Env{{Name: "x", Sort: 0}}, sample.Form("true"), api.ErrArg}, {s, w, append(ok, ok...), sample.Form("true"), api.ErrArg}, {s, w, append(ok, ok...), api.Form{}, api.ErrArg},
+		{s, w, ok, api.Form{}, api.ErrArg}, {s, w, ok, deep, api.ErrBound}, {s, w, ok, sample.Form("some s: slot (at(l, s))"), api.OK}, {s, w, ok, sample.Form("some s: slot (at(s, l))"), api.ErrSort},
+		{s, w, ok, sample.Form("some s: slot (at(m, s))"), api.ErrVar}, {s, w, ok, sample.Form("some l: slot (true)"), api.ErrTwice}, {s, w, ok, sample.Form("size(l) = 9"), api.OK},
 	} {
 		if ok, e := eval.Holds(x.s, x.w, x.env, x.f); e != x.e || e != api.OK && ok {
 			t.Errorf("%d: %v, %d, want %d", i, ok, e, x.e)
@@ -146,8 +98,8 @@ func TestHoldsErrors(t *testing.T) {
 
 func TestBreadthOfFormulas(t *testing.T) {
 	// 33 * 31 * 41 * 25 is 2 to the power of 20, less one.
-	s := plain(33, 25, 1, 31, 41)
-	w := zero(s)
+	s := sample.Plain(33, 25, 1, 31, 41)
+	w := sample.Zero(s)
 	all := "l: lesson, s: slot, p: person, g: group"
 	for src, want := range map[string]api.Errno{
 		"all " + all + " (true)": api.OK, "!all " + all + " (true)": api.ErrBound, "most 0 " + all + " (!true)": api.ErrBound, "true & some " + all + " (true)": api.ErrBound,
@@ -155,33 +107,33 @@ func TestBreadthOfFormulas(t *testing.T) {
 		"least 1 l: lesson, p: person, m: lesson, q: person, n: lesson, o: person (true)": api.ErrBound,
 		"all l: lesson (all s: slot (all p: person (all g: group (true))))":               api.ErrBound,
 	} {
-		if x, e := eval.Holds(s, w, nil, form(src)); e != want || e != api.OK && x {
+		if x, e := eval.Holds(s, w, nil, sample.Form(src)); e != want || e != api.OK && x {
 			t.Errorf("%s: %v, %d", src, x, e)
 		}
 	}
 	// Nothing is too broad below an empty sort.
-	s = plain(64, 50, 32, 64, 0)
-	w = zero(s)
+	s = sample.Plain(64, 50, 32, 64, 0)
+	w = sample.Zero(s)
 	inner := "all l: lesson, m: lesson, n: lesson, o: lesson, p: person, q: person (all a: lesson, b: lesson, c: lesson, d: lesson, e: lesson, f: lesson (true))"
 	for src, want := range map[string]api.Errno{"some g: group (" + inner + ")": api.OK, inner: api.ErrBound, "some d1: day (" + inner + ")": api.ErrBound, "all g: group, k: lesson (" + inner + ") & true": api.OK} {
-		if _, e := eval.Holds(s, w, nil, form(src)); e != want {
+		if _, e := eval.Holds(s, w, nil, sample.Form(src)); e != want {
 			t.Errorf("%s: %d", src, e)
 		}
 	}
-	s = plain(64, 32, 2, 0, 0)
-	w = zero(s)
+	s = sample.Plain(64, 32, 2, 0, 0)
+	w = sample.Zero(s)
 	// 1 + 64 * 32 * (1 + 64 * 8) is just above the limit, and so is 1 + 64 * 32 * (1 + 64 * 7 * 10), but not 1 + 64 * 32 * (1 + 64 * 7).
 	wide := "all l: lesson, s: slot (%s)"
 	for sub, want := range map[string]api.Errno{"some m: lesson, h: house (true)": api.ErrBound, "some m: lesson, d: day (!!!true & (true | true -> true))": api.ErrBound, "some m: lesson, d: day (true)": api.OK} {
-		if _, e := eval.Holds(s, w, nil, form(fmt.Sprintf(wide, sub))); e != want {
+		if _, e := eval.Holds(s, w, nil, sample.Form(fmt.Sprintf(wide, sub))); e != want {
 			t.Errorf("%s: %d", sub, e)
 		}
 	}
 }
 
 func TestDeepScopes(t *testing.T) {
-	s := plain(1, 2, 1, 1, 1)
-	f := form("at(l22, s22)")
+	s := sample.Plain(1, 2, 1, 1, 1)
+	f := sample.Form("at(l22, s22)")
 	for i := 22; i >= 0; i-- {
 		f = api.Form{Kind: api.AllF, L: []api.Form{f}}
 		for k, n := range "lsxrpg" {
@@ -193,17 +145,17 @@ func TestDeepScopes(t *testing.T) {
 		}
 	}
 	for slot := range 2 {
-		if ok, e := eval.Holds(s, weekOf(slot, 0), []api.Env{{Name: "z", Sort: api.DayS, At: 6}}, f); ok || e != api.OK {
+		if ok, e := eval.Holds(s, sample.Week(slot, 0), []api.Env{{Name: "z", Sort: api.DayS, At: 6}}, f); ok || e != api.OK {
 			t.Error("all slots:", ok, e)
 		}
 	}
-	if ok, e := eval.Holds(plain(1, 1, 1, 1, 1), weekOf(0, 0), nil, f); !ok || e != api.OK {
+	if ok, e := eval.Holds(sample.Plain(1, 1, 1, 1, 1), sample.Week(0, 0), nil, f); !ok || e != api.OK {
 		t.Error("the only slot:", ok, e)
 	}
 }
 
 func TestInsts(t *testing.T) {
-	s := sample()
+	s := tiny()
 	for src, want := range map[string]string{
 		"hard a: true;":                                              "[[]]",
 		"hard a each l: lesson: true;":                               "[[0] [1]]",
@@ -214,26 +166,26 @@ func TestInsts(t *testing.T) {
 		"hard a each g: group, h: group: g = h;":                     "[[0 0] [0 1] [1 0] [1 1]]",
 		"hard a each l: lesson, g: group, p: person: attends(g, l);": "[[0 0 0] [0 0 1] [0 1 0] [0 1 1] [1 0 0] [1 0 1] [1 1 0] [1 1 1]]",
 	} {
-		if l, e := eval.Insts(s, rules(src)[0]); e != api.OK || fmt.Sprint(l) != want {
+		if l, e := eval.Insts(s, sample.Rules(src)[0]); e != api.OK || fmt.Sprint(l) != want {
 			t.Errorf("%s: %v, %d", src, l, e)
 		}
 	}
-	if l, e := eval.Insts(plain(0, 1, 1, 0, 0), rules("hard a each l: lesson, s: slot: true;")[0]); e != api.OK || len(l) != 0 {
+	if l, e := eval.Insts(sample.Plain(0, 1, 1, 0, 0), sample.Rules("hard a each l: lesson, s: slot: true;")[0]); e != api.OK || len(l) != 0 {
 		t.Error(l, e)
 	}
-	if l, e := eval.Insts(plain(64, 1, 1, 64, 0), rules("hard a each l: lesson, p: person: true;")[0]); e != api.OK || len(l) != 4096 || !slices.Equal(l[4095], []int{63, 63}) || !slices.Equal(l[64], []int{1, 0}) {
+	if l, e := eval.Insts(sample.Plain(64, 1, 1, 64, 0), sample.Rules("hard a each l: lesson, p: person: true;")[0]); e != api.OK || len(l) != 4096 || !slices.Equal(l[4095], []int{63, 63}) || !slices.Equal(l[64], []int{1, 0}) {
 		t.Error(len(l), e)
 	}
-	bad := rules("hard a each l: lesson, p: person, s: slot: true;")[0]
+	bad := sample.Rules("hard a each l: lesson, p: person, s: slot: true;")[0]
 	for i, x := range []struct {
 		s api.School
 		r api.Rule
 		e api.Errno
 	}{
-		{api.School{}, bad, api.ErrArg}, {plain(64, 51, 1, 64, 0), api.Rule{}, api.ErrBound}, {s, api.Rule{}, api.ErrArg}, {plain(64, 2, 1, 64, 0), bad, api.ErrBound}, {plain(64, 1, 1, 64, 0), bad, api.OK},
-		{s, api.Rule{Name: "a", Hard: true, Body: form("x = 1")}, api.ErrVar}, {s, api.Rule{Name: "a", Hard: true, Body: form("at(x, y)"), Each: []api.Bind{{Name: "x", Sort: 2}}}, api.ErrSort},
-		{plain(64, 50, 32, 64, 64), rules("hard a each l: lesson, m: lesson, n: lesson, o: lesson, p: lesson, q: lesson: true;")[0], api.ErrBound},
-		{plain(64, 50, 32, 0, 64), rules("hard a each l: lesson, m: lesson, n: lesson, o: lesson, p: lesson, q: person: true;")[0], api.OK},
+		{api.School{}, bad, api.ErrArg}, {sample.Plain(64, 51, 1, 64, 0), api.Rule{}, api.ErrBound}, {s, api.Rule{}, api.ErrArg}, {sample.Plain(64, 2, 1, 64, 0), bad, api.ErrBound}, {sample.Plain(64, 1, 1, 64, 0), bad, api.OK},
+		{s, api.Rule{Name: "a", Hard: true, Body: sample.Form("x = 1")}, api.ErrVar}, {s, api.Rule{Name: "a", Hard: true, Body: sample.Form("at(x, y)"), Each: []api.Bind{{Name: "x", Sort: 2}}}, api.ErrSort},
+		{sample.Plain(64, 50, 32, 64, 64), sample.Rules("hard a each l: lesson, m: lesson, n: lesson, o: lesson, p: lesson, q: lesson: true;")[0], api.ErrBound},
+		{sample.Plain(64, 50, 32, 0, 64), sample.Rules("hard a each l: lesson, m: lesson, n: lesson, o: lesson, p: lesson, q: person: true;")[0], api.OK},
 	} {
 		if l, e := eval.Insts(x.s, x.r); e != x.e || e != api.OK && len(l) > 0 {
 			t.Errorf("%d: %d, want %d", i, e, x.e)
@@ -242,16 +194,16 @@ func TestInsts(t *testing.T) {
 }
 
 func TestTheExampleOfTheChapter(t *testing.T) {
-	s := plain(2, 2, 1, 0, 0)
+	s := sample.Plain(2, 2, 1, 0, 0)
 	f := "all l: lesson, m: lesson (l = m | some s: slot (at(l, s) & !at(m, s)))"
 	for _, x := range []struct {
 		w    api.Week
 		want bool
-	}{{weekOf(0, 0, 1, 0), true}, {weekOf(1, 0, 0, 0), true}, {weekOf(0, 0, 0, 0), false}, {weekOf(1, 0, 1, 0), false}} {
-		if ok, e := eval.Holds(s, x.w, nil, form(f)); ok != x.want || e != api.OK {
+	}{{sample.Week(0, 0, 1, 0), true}, {sample.Week(1, 0, 0, 0), true}, {sample.Week(0, 0, 0, 0), false}, {sample.Week(1, 0, 1, 0), false}} {
+		if ok, e := eval.Holds(s, x.w, nil, sample.Form(f)); ok != x.want || e != api.OK {
 			t.Error(x.w, ok, e)
 		}
-		l, e := eval.Broken(s, x.w, rules("hard x each l: lesson, m: lesson: l = m | some s: slot (at(l, s) & !at(m, s));"))
+		l, e := eval.Broken(s, x.w, sample.Rules("hard x each l: lesson, m: lesson: l = m | some s: slot (at(l, s) & !at(m, s));"))
 		if n := map[bool]int{true: 0, false: 2}[x.want]; e != api.OK || len(l) != n {
 			t.Error(x.w, l, e)
 		}
@@ -259,9 +211,9 @@ func TestTheExampleOfTheChapter(t *testing.T) {
 }
 
 func TestEmptySorts(t *testing.T) {
-	s := plain(0, 1, 1, 0, 0)
+	s := sample.Plain(0, 1, 1, 0, 0)
 	for src, want := range map[string]bool{"all l: lesson (false)": true, "some l: lesson (true)": false, "least 1 l: lesson, s: slot (true)": false, "most 0 s: slot, l: lesson (true)": true, "least 0 l: lesson (true)": true} {
-		if ok, e := eval.Holds(s, api.Week{}, nil, form(src)); ok != want || e != api.OK {
+		if ok, e := eval.Holds(s, api.Week{}, nil, sample.Form(src)); ok != want || e != api.OK {
 			t.Errorf("%s: %v, %d", src, ok, e)
 		}
 	}
@@ -269,11 +221,16 @@ func TestEmptySorts(t *testing.T) {
 
 // A week plays no part in a formula without at and in.
 func TestFormulasWithoutPlaces(t *testing.T) {
-	r := rand.New(rand.NewPCG(1, 1))
-	s := sample()
+	r := sample.New(1)
+	s := tiny()
 	weeks, _ := week.All(s, 100)
-	for range 200 {
-		f := random(r, nil, 5, false)
+	seen := 0
+	for range 2000 {
+		f := r.Form(nil, 5)
+		if placed(f) {
+			continue
+		}
+		seen++
 		first, _ := eval.Holds(s, weeks[0], nil, f)
 		for _, w := range weeks {
 			if ok, e := eval.Holds(s, w, nil, f); ok != first || e != api.OK {
@@ -281,15 +238,23 @@ func TestFormulasWithoutPlaces(t *testing.T) {
 			}
 		}
 	}
+	if seen < 100 {
+		t.Error(seen)
+	}
+}
+
+// placed reports whether a formula speaks of at or in.
+func placed(f api.Form) bool {
+	return f.Kind == api.AtF || f.Kind == api.InF || slices.ContainsFunc(f.L, placed)
 }
 
 func TestNormalFormsMeanTheSame(t *testing.T) {
-	r := rand.New(rand.NewPCG(2, 2))
-	s := sample()
+	r := sample.New(2)
+	s := tiny()
 	weeks, _ := week.All(s, 100)
 	for range 1000 {
-		f := random(r, nil, 5, true)
-		w := weeks[r.IntN(len(weeks))]
+		f := r.Form(nil, 5)
+		w := weeks[r.Below(len(weeks))]
 		nnf, e := formula.Nnf(f)
 		if formula.Check(nnf) != api.OK {
 			continue
