@@ -123,3 +123,12 @@ func TestWordyRules(t *testing.T) {
 	fails(t, "why", p, of(api.WhyDo, enough), api.ErrBound)
 	fails(t, "what", p, what(p.Plan.School.Lessons[0].Name, p.Plan.School.Slots[0].Name, enough), api.ErrBound)
 }
+
+// Its rules have instances, but its clauses are too many.
+func TestGreatSchools(t *testing.T) {
+	p, _ := planner.New(0)
+	p = after(t, p, set(sample.Plain(64, 50, 32, 0, 0), never))
+	fails(t, "solve", p, of(api.SolveDo, enough), api.ErrBound)
+	fails(t, "why", p, of(api.WhyDo, enough), api.ErrBound)
+	fails(t, "what", p, what("l0", "s0", enough), api.ErrBound)
+}

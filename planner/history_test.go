@@ -1,7 +1,6 @@
 package planner_test
 
 import (
-	"fmt"
 	"slices"
 	"testing"
 
@@ -198,47 +197,6 @@ func wireWords(p api.Planner, d api.Do) (api.Planner, api.Told) {
 	return p, api.Told{}
 }
 
-// sensible returns the kind of an operation that leads on.
-func sensible(p api.Planner) int {
-	switch {
-	case len(p.Plan.School.Slots) == 0:
-		return api.SchoolDo
-	case len(p.Wait) > 0:
-		return api.SyncDo
-	case p.Ready:
-		return api.PublishDo
-	case len(p.Wire) > 4:
-		return api.LoseDo
-	case len(p.Wire) > 0:
-		return api.GetDo + 2*(len(p.Wire)%2)
-	case len(p.Versions) == 0 || len(p.Events)%2 == 0:
-		return api.SolveDo
-	}
-	return api.WishDo
-}
-
-// random returns an operation that often makes sense.
-func random(r *sample.Source, p api.Planner) api.Do {
-	d := api.Do{Kind: 1 + r.Below(13), N: r.Below(4) - r.Below(2)}
-	if r.Chance(2) {
-		d = api.Do{Kind: sensible(p), N: r.Below(1 + len(p.Wire))}
-	}
-	switch d.Kind {
-	case api.SchoolDo:
-		d.School = r.School(r.Below(4), 1+r.Below(3), 1+r.Below(2))
-		d.Text, _ = syntax.Print(r.Rules(r.Below(3), 2))
-	case api.EditDo:
-		d.Edit = api.Edit{Kind: 1 + r.Below(6), Name: []string{"l0", "l1", "p0", "r0", "n0", "n1"}[r.Below(6)], Slot: fmt.Sprint("s", r.Below(3)), Off: r.Chance(2)}
-		d.Edit.Text, _ = syntax.Print(r.Rules(1, 2))
-	case api.SolveDo, api.WhyDo, api.WhatDo:
-		d.N = []int{0, 1, 3, enough, enough, -1}[r.Below(6)]
-		d.Name, d.Slot = fmt.Sprint("l", r.Below(4)), fmt.Sprint("s", r.Below(4))
-	case api.CrashDo:
-		d.N = r.Below(len(p.Disk.Open)+2) - r.Below(2)
-	}
-	return d
-}
-
 // holds checks what is true of every planner that operations lead to.
 func holds(t *testing.T, before, after api.Planner) {
 	if e := planner.Check(after); e != api.OK {
@@ -270,7 +228,7 @@ func TestRandomHistories(t *testing.T) {
 		var all []api.Do
 		var tolds []api.Told
 		for range 60 {
-			d := random(r, p)
+			d := r.Do(p)
 			text := show(p, d)
 			q, told := planner.Do(p, d)
 			want, wantTold := byWords(p, d)
@@ -278,7 +236,7 @@ func TestRandomHistories(t *testing.T) {
 				t.Fatalf("seed %d: %s: %s, want %s\n%s, want\n%s", seed, show(d), show(told), show(wantTold), show(q), show(want))
 			}
 			// Another operation on the same planner must leave the first result alone.
-			planner.Do(p, random(r, p))
+			planner.Do(p, r.Do(p))
 			if show(p, d) != text || show(q) != show(want) {
 				t.Fatalf("seed %d: %s changes an argument or a result", seed, show(d))
 			}

@@ -40,3 +40,24 @@ func TestSamplesAreValid(t *testing.T) {
 		t.Error(e)
 	}
 }
+
+// Every kind of operation occurs.
+func TestOperations(t *testing.T) {
+	seen := map[int]bool{}
+	for seed := range 50 {
+		r, again := sample.New(seed), sample.New(seed)
+		p := api.Planner{Wire: make([]api.Msg, r.Below(7)), Ready: r.Chance(2)}
+		again.Below(7)
+		again.Chance(2)
+		for range 20 {
+			d := r.Do(p)
+			if !reflect.DeepEqual(d, again.Do(p)) || d.Kind < 1 || d.Kind > 13 {
+				t.Fatal(seed, d)
+			}
+			seen[d.Kind] = true
+		}
+	}
+	if len(seen) != 13 {
+		t.Error(seen)
+	}
+}
