@@ -167,6 +167,21 @@ func wrongPlanners(t *testing.T) map[string]api.Planner {
 	wrong("people only", api.Planner{}, func(p *api.Planner) { p.Plan.School.People = small().People })
 	wrong("groups only", api.Planner{}, func(p *api.Planner) { p.Plan.School.Groups = []api.Group{{Name: "g"}} })
 	wrong("lessons only", api.Planner{}, func(p *api.Planner) { p.Plan.School.Lessons = small().Lessons })
+	wrong("slots and rooms", api.Planner{}, func(p *api.Planner) {
+		p.Plan.School.Slots, p.Plan.School.Rooms = make([]api.Slot, 1), make([]api.Room, 1)
+	})
+	for name, f := range map[string]func(p *api.Plan){
+		"people":  func(p *api.Plan) { p.School.People = small().People },
+		"groups":  func(p *api.Plan) { p.School.Groups = []api.Group{{Name: "g"}} },
+		"lessons": func(p *api.Plan) { p.School.Lessons = small().Lessons },
+		"rules":   func(p *api.Plan) { p.Rules = sample.Rules("hard r: true;") },
+		"frozen":  func(p *api.Plan) { p.Frozen = []int{0} },
+	} {
+		wrong("rooms and "+name, api.Planner{}, func(p *api.Planner) {
+			p.Plan.School.Rooms = small().Rooms
+			f(&p.Plan)
+		})
+	}
 	wrong("frozen 1", done(t), func(p *api.Planner) { p.Plan.Frozen = []int{1} })
 	wrong("untyped rule", done(t), func(p *api.Planner) { p.Plan.Rules = sample.Rules("hard r: x = y;") })
 	wrong("ready without a plan", api.Planner{}, func(p *api.Planner) { p.Ready, p.Draft = true, api.Repaired{Kind: api.YesA} })

@@ -18,8 +18,7 @@ func (r *Source) Do(p api.Planner) api.Do {
 		d.School = r.School(r.Below(4), 1+r.Below(3), 1+r.Below(2))
 		d.Text = r.text(r.Below(3))
 	case api.EditDo:
-		names := [6]string{"l0", "l1", "p0", "r0", "n0", "n1"}
-		d.Edit = api.Edit{Kind: 1 + r.Below(6), Name: names[r.Below(6)], Slot: "s" + strconv.Itoa(r.Below(3)), Off: r.Chance(2), Text: r.text(1)}
+		d.Edit = r.edit()
 	case api.SolveDo, api.WhyDo, api.WhatDo:
 		budgets := [6]int{0, 1, 3, 1 << 30, 1 << 30, -1}
 		d.Name, d.Slot, d.N = "l"+strconv.Itoa(r.Below(3)), "s"+strconv.Itoa(r.Below(3)), budgets[r.Below(6)]
@@ -27,6 +26,25 @@ func (r *Source) Do(p api.Planner) api.Do {
 		d.N = r.Below(len(p.Disk.Open)+2) - r.Below(2)
 	}
 	return d
+}
+
+// edit returns an edit; it has only the fields that its kind uses.
+func (r *Source) edit() api.Edit {
+	x := api.Edit{Kind: 1 + r.Below(6)}
+	number := strconv.Itoa(r.Below(2))
+	switch x.Kind {
+	case api.AwayE:
+		x.Name, x.Slot, x.Off = "p"+number, "s"+strconv.Itoa(r.Below(3)), r.Chance(2)
+	case api.ShutE:
+		x.Name, x.Slot, x.Off = "r"+number, "s"+strconv.Itoa(r.Below(3)), r.Chance(2)
+	case api.AddE, api.ChangeE:
+		x.Text = r.text(1)
+	case api.DropE:
+		x.Name = "n" + number
+	case api.FreezeE:
+		x.Name, x.Off = "l"+number, r.Chance(2)
+	}
+	return x
 }
 
 // text returns the text of n small rules.
