@@ -38,7 +38,8 @@ func (q *search) learn(conflict int) {
 		levels[q.level[variable(lit)]] = true
 	}
 	q.back(level)
-	id := q.append(clause{lits: l, learnt: true, levels: len(levels), act: q.now})
+	id := q.store(clause{lits: l, learnt: true, levels: len(levels), act: q.now})
+	q.watchBoth(id)
 	q.proof = append(q.proof, api.Line{Kind: api.LearntP, L: slices.Clone(l)})
 	q.assign(l[0], id)
 	q.order.decay()

@@ -18,11 +18,12 @@ type order struct {
 	by    int
 	queue []int
 	at    []int // the position of a variable in the queue, or -1
+	all   []int // the variables as they were queued at first
 }
 
 // newOrder returns the order of a valid heap.
 func newOrder(h api.Heap) *order {
-	o := &order{act: slices.Clone(h.Act), by: h.By, queue: slices.Clone(h.L), at: make([]int, len(h.Act))}
+	o := &order{act: slices.Clone(h.Act), by: h.By, queue: slices.Clone(h.L), at: make([]int, len(h.Act)), all: h.L}
 	for i, v := range o.queue {
 		o.at[v] = i
 	}
@@ -31,10 +32,8 @@ func newOrder(h api.Heap) *order {
 
 // heap returns the order as a heap with all variables.
 func (o *order) heap() api.Heap {
-	h := api.Heap{Act: o.act, By: o.by}
-	for v := 1; v < len(o.act); v++ {
-		h.L = append(h.L, v)
-	}
+	// Little has changed as a rule, and what is nearly sorted is sorted fast.
+	h := api.Heap{Act: o.act, L: slices.Clone(o.all), By: o.by}
 	slices.SortFunc(h.L, o.compare)
 	return h
 }

@@ -1,7 +1,5 @@
 package solver
 
-import "chalkline/cnf"
-
 // variable returns the variable of a literal.
 func variable(lit int) int { return max(lit, -lit) }
 
@@ -36,37 +34,6 @@ func (q *search) back(level int) {
 		q.order.push(v)
 	}
 	q.trail, q.head, q.limits = q.trail[:start], start, q.limits[:level]
-}
-
-// add adds a clause at level 0 and returns its number. It is none if the clause is always true.
-func (q *search) add(c clause) int {
-	l, tautology := cnf.Norm(c.lits)
-	if tautology {
-		return none
-	}
-	c.lits = l
-	id := q.append(c)
-	switch {
-	case len(l) == 0 || len(l) == 1 && q.isFalse(l[0]):
-		q.broken = id
-	case len(l) == 1 && !q.isTrue(l[0]):
-		q.assign(l[0], id)
-	}
-	return id
-}
-
-// append adds a clause, whose first two literals it makes watched.
-func (q *search) append(c clause) int {
-	id := len(q.clauses)
-	q.clauses = append(q.clauses, c)
-	if c.learnt {
-		q.learnt++
-	}
-	if len(c.lits) > 1 {
-		q.watch(id, c.lits[0], c.lits[1])
-		q.watch(id, c.lits[1], c.lits[0])
-	}
-	return id
 }
 
 // watch makes a clause watch a literal; other is another literal of the clause.

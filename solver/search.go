@@ -60,13 +60,7 @@ func newSearch(s api.Solver, assume []int, budget int) *search {
 		n: s.N, watchers: make([][]watch, 2*s.N+1), truth: make([]bool, 2*s.N+1), level: make([]int, s.N+1), reason: make([]int, s.N+1),
 		broken: none, order: newOrder(s.Heap), phase: slices.Clone(s.Phase), seen: make([]bool, s.N+1), assume: assume, budget: budget, room: manyLearnt,
 	}
-	for _, l := range s.Given {
-		q.add(clause{lits: l})
-	}
-	for _, x := range s.Learnt {
-		q.now = max(q.now, x.Act)
-		q.add(clause{lits: x.L, learnt: true, levels: x.Levels, act: x.Act})
-	}
+	q.load(s)
 	return q
 }
 
