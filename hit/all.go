@@ -50,22 +50,30 @@ exploration:
 	for {
 		seed := m.seed()
 		a := seed
+		var in []bool
 		switch seed.Kind {
 		case api.NoA:
 			break exploration
 		case api.YesA:
-			a = m.examine(c, assume, func(i int) bool { return !seed.Model[i+1] })
+			in = enlarged(seed.Model, y.Cores)
+			a, _ = core.Least(c, chosen(assume, func(i int) bool { return in[i] }), m.left)
+			m.left -= a.Spent
 		}
 		var set []int
-		for _, lit := range a.Core {
-			set = append(set, index(lit))
-		}
-		slices.Sort(set)
 		switch a.Kind {
 		case api.NoA:
+			for _, lit := range a.Core {
+				set = append(set, index(lit))
+			}
+			slices.Sort(set)
 			y.Cores = append(y.Cores, set)
 			m.require(set, 1)
 		case api.YesA:
+			for i := range assume {
+				if !in[i] {
+					set = append(set, i)
+				}
+			}
 			y.Fixes = append(y.Fixes, set)
 			m.require(set, -1)
 		default:
@@ -76,6 +84,24 @@ exploration:
 	return y
 }
 
+// enlarged returns an unexplored index set that is as large as the known cores allow. If it is consistent, what is missing is a correction set: with any more it would contain a core.
+func enlarged(model []bool, cores [][]int) []bool {
+	in := make([]bool, len(model)-1)
+	for i := range in {
+		in[i] = !model[i+1]
+	}
+	for i := range in {
+		if in[i] {
+			continue
+		}
+		in[i] = true
+		in[i] = !slices.ContainsFunc(cores, func(core []int) bool {
+			return !slices.ContainsFunc(core, func(k int) bool { return !in[k] })
+		})
+	}
+	return in
+}
+
 // seed solves for an unexplored index set.
 func (m *unexplored) seed() api.Answer {
 	s, a, e := solver.Solve(m.Solver, nil, m.left)
@@ -83,7 +109,8 @@ func (m *unexplored) seed() api.Answer {
 		return api.Answer{Kind: api.OutA}
 	}
 	m.Solver = s
-	return m.paid(a)
+	m.left -= a.Spent
+	return a
 }
 
 // require says that one of the indices must be missing (sign 1) or present (sign -1).
@@ -94,21 +121,4 @@ func (m *unexplored) require(set []int, sign int) {
 	}
 	// If there were too many clauses, the zero solver would end the exploration.
 	m.Solver, _ = solver.Add(m.Solver, l)
-}
-
-// examine returns a core within an index set (NoA), or else what is missing in a consistent set around it that can't be larger (YesA).
-func (m *unexplored) examine(c api.Cnf, assume []int, in func(i int) bool) api.Answer {
-	keep := chosen(assume, in)
-	a, _ := core.Least(c, keep, m.left)
-	if m.paid(a).Kind != api.YesA {
-		return a
-	}
-	a, _ = core.Grow(c, keep, chosen(assume, func(i int) bool { return !in(i) }), m.left)
-	return m.paid(a)
-}
-
-// paid takes what an answer cost from the budget.
-func (m *unexplored) paid(a api.Answer) api.Answer {
-	m.left -= a.Spent
-	return a
 }
