@@ -153,15 +153,21 @@ func randomOld(r *sample.Source, s api.School) api.Week {
 	return w
 }
 
+// randomWeeks returns a plan, an old week, and a week that often may follow it.
+func randomWeeks(r *sample.Source) (p api.Plan, old, w api.Week) {
+	p = random(r)
+	old, w = randomOld(r, p.School), randomOld(r, p.School)
+	if l := others(p, old); len(l) > 0 && r.Chance(2) {
+		w = l[r.Below(len(l))]
+	}
+	return p, old, w
+}
+
 func TestBestAndNone(t *testing.T) {
 	seen := map[string]int{}
 	for seed := range 1500 {
 		r := sample.New(seed)
-		p := random(r)
-		old, w := randomOld(r, p.School), randomOld(r, p.School)
-		if l := others(p, old); len(l) > 0 && r.Chance(2) {
-			w = l[r.Below(len(l))]
-		}
+		p, old, w := randomWeeks(r)
 		text := show(p, old, w)
 		got, none := audit.Best(p, old, w), audit.None(p, old)
 		if want := best(p, old, w); got != want {

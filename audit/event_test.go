@@ -135,11 +135,7 @@ func TestRandomEvents(t *testing.T) {
 	seen := map[string]int{}
 	for seed := range 2000 {
 		r := sample.New(seed)
-		p := random(r)
-		old, w := randomOld(r, p.School), randomOld(r, p.School)
-		if l := others(p, old); len(l) > 0 && r.Chance(2) {
-			w = l[r.Below(len(l))]
-		}
+		p, old, w := randomWeeks(r)
 		_, cost := audit.Holds(p, w)
 		e := api.Event{Kind: r.Below(8), Plan: p, Old: old, Fix: r.Below(2*week.Vars(p.School)+5) - week.Vars(p.School) - 2}
 		if e.Kind == api.WhyE {
